@@ -1,0 +1,61 @@
+"""The interface's names and arguments, and the form of the package's files."""
+
+import ast
+import pathlib
+import unittest
+
+PACKAGE = pathlib.Path(__file__).resolve().parent.parent / "openties"
+
+FUNCTIONS = {
+    "schemas.py": {
+        "is_schema": ["value"],
+        "closure": ["schema", "columns"],
+        "is_table": ["schema", "value"],
+        "alike_table": ["schema", "columns", "count"],
+    },
+    "reports.py": {"is_report": ["schema", "value"], "kept_columns": ["schema", "report"]},
+}
+
+ERRORS = ["OpentiesError", "InvalidIndex", "InvalidName", "NameInUse", "OfficeFull", "NoTable", "InvalidScript",
+          "NoRun", "InvalidRow", "InvalidReport"]
+
+
+def parsed(name):
+    return ast.parse((PACKAGE / name).read_text("ascii"))
+
+
+class TestForm(unittest.TestCase):
+    def test_functions_are_defined_in_their_files(self):
+        for name, functions in FUNCTIONS.items():
+            found = {
+                part.name: [argument.arg for argument in part.args.args]
+                for part in parsed(name).body
+                if isinstance(part, ast.FunctionDef) and part.name in functions
+            }
+            self.assertEqual(found, functions, name)
+
+    def test_errors_are_defined_in_their_file(self):
+        found = [part.name for part in parsed("errors.py").body if isinstance(part, ast.ClassDef)]
+        self.assertEqual(sorted(found), sorted(ERRORS))
+
+    def test_the_folder_holds_nothing_but_files_of_the_program(self):
+        found = [path.name for path in PACKAGE.iterdir() if path.name != "__pycache__"]
+        self.assertIn("__init__.py", found)
+        self.assertEqual([name for name in found if not name.endswith(".py")], [])
+
+    def test_sizes_and_characters(self):
+        for path in PACKAGE.glob("*.py"):
+            lines = path.read_text("ascii").split("\n")
+            self.assertLess(len(lines), 400, path.name)
+            for number, line in enumerate(lines, start=1):
+                self.assertTrue(len(line) <= 120 and (line.isprintable()), (path.name, number))
+            for part in ast.walk(parsed(path.name)):
+                if isinstance(part, ast.FunctionDef):
+                    self.assertLessEqual(part.end_lineno - part.lineno + 1, 40, (path.name, part.name))
+
+    def test_imports(self):
+        for path in PACKAGE.glob("*.py"):
+            for part in ast.walk(parsed(path.name)):
+                self.assertNotIsInstance(part, ast.Import, path.name)
+                if isinstance(part, ast.ImportFrom):
+                    self.assertTrue(part.module.startswith("openties."), (path.name, part.module))
