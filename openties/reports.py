@@ -1,6 +1,6 @@
 """Stage 2: reports, the steps through which a table goes."""
 
-from openties.schemas import is_column, is_column_set, is_plain_integer
+from openties.schemas import is_column, is_column_set, is_order, is_plain_integer
 
 MOST_STEPS = 8
 MOST_COUNT = 20
@@ -24,7 +24,7 @@ def is_report(schema, value):
             return False
         is_cut = is_cut or kind in CUTTING
         is_grouped = kind in GROUPING
-        kept = _kept_after(kept, step)
+        kept = kept_after(kept, step)
     return True
 
 
@@ -32,11 +32,11 @@ def kept_columns(schema, report):
     """Return the column set that is kept at the end of a report."""
     kept = schema[0]
     for step in report:
-        kept = _kept_after(kept, step)
+        kept = kept_after(kept, step)
     return kept
 
 
-def _kept_after(kept, step):
+def kept_after(kept, step):
     """Return the columns that are kept after a step."""
     return step[1] if step[0] == "columns" else kept
 
@@ -53,7 +53,7 @@ def _is_step(kept, value):
 def _is_short_step(kept, kind, part):
     """Return whether the kind of step may have just this part."""
     if kind in SORTING:
-        return _is_order(kept, part)
+        return is_order(kept, part) and part != ""
     if kind in CUTTING:
         return is_plain_integer(part) and 0 <= part <= MOST_COUNT
     return kind in ("columns", "count", "heads") and _is_filled_set(kept, part)
@@ -69,11 +69,3 @@ def _is_long_step(kept, kind, part, last):
 def _is_filled_set(kept, value):
     """Return whether the value is a column set of kept columns that is not empty."""
     return is_column_set(kept, value) and value != ""
-
-
-def _is_order(kept, value):
-    """Return whether the value is a string of one or more distinct kept columns in any order."""
-    # The length comes first, because a value of any kind may be a very long string.
-    if not isinstance(value, str) or not 1 <= len(value) <= len(kept):
-        return False
-    return all([is_column(kept, column) for column in value]) and len(set(value)) == len(value)

@@ -21,7 +21,31 @@ def is_column_set(columns, value):
     # The length comes first, because a value of any kind may be a very long string.
     if not isinstance(value, str) or len(value) > len(columns):
         return False
-    return value == "".join([column for column in columns if column in value])
+    return value == common(columns, value)
+
+
+def is_order(columns, value):
+    """Return whether the value is a string of distinct columns in any order, perhaps empty."""
+    # The length comes first, because a value of any kind may be a very long string.
+    if not isinstance(value, str) or len(value) > len(columns):
+        return False
+    return all([is_column(columns, column) for column in value]) and len(set(value)) == len(value)
+
+
+def common(columns, names):
+    """Return those of the columns that occur among the names, in the order of the columns."""
+    return "".join([column for column in columns if column in names])
+
+
+def contains(columns, part):
+    """Return whether all columns of the part are among the columns."""
+    return all([column in columns for column in part])
+
+
+def projected(columns, part, rows):
+    """Return, for each row with these columns, the tuple of its values in the columns of the part."""
+    places = [columns.index(column) for column in part]
+    return [tuple([row[place] for place in places]) for row in rows]
 
 
 def is_schema(value):
@@ -43,6 +67,11 @@ def closure(schema, columns):
     return found
 
 
+def is_unique(schema, columns):
+    """Return whether the closure of a column set contains a key."""
+    return _has_key(closure(schema, columns), schema[2])
+
+
 def is_table(schema, value):
     """Return whether the value is a table of the schema."""
     columns, rules, keys = schema
@@ -58,12 +87,11 @@ def is_table(schema, value):
 
 def alike_table(schema, columns, count):
     """Return a table of count rows that are equal just in the closure of the column set."""
-    names, _, keys = schema
-    same = closure(schema, columns)
-    if count > 1 and _has_key(same, keys):
+    if count > 1 and is_unique(schema, columns):
         raise NoTable("two rows of this table would be equal in a key")
+    same = closure(schema, columns)
     # A rule whose left side is in the closure has its right side there, so these rows keep all rules.
-    return [tuple([0 if name in same else at for name in names]) for at in range(count)]
+    return [tuple([0 if name in same else at for name in schema[0]]) for at in range(count)]
 
 
 def _are_rules(columns, value):
@@ -88,14 +116,9 @@ def _are_keys(columns, value):
     return "" not in value and len(set(value)) == len(value)
 
 
-def _contains(columns, part):
-    """Return whether all columns of the part are among the columns."""
-    return all([column in columns for column in part])
-
-
 def _has_key(columns, keys):
     """Return whether the columns contain one of the keys."""
-    return any([_contains(columns, key) for key in keys])
+    return any([contains(columns, key) for key in keys])
 
 
 def _closure_round(schema, found):
@@ -103,8 +126,8 @@ def _closure_round(schema, found):
     names, rules, keys = schema
     if _has_key(found, keys):
         return names
-    gained = [right for left, right in rules if _contains(found, left)]
-    return "".join([name for name in names if name in found or name in gained])
+    gained = [right for left, right in rules if contains(found, left)]
+    return common(names, found + "".join(gained))
 
 
 def _is_row(columns, value):
@@ -114,17 +137,11 @@ def _is_row(columns, value):
     return all([is_plain_integer(part) for part in value])
 
 
-def _projected(columns, part, table):
-    """Return, for each row of the table, the tuple of its values in the columns of the part."""
-    places = [columns.index(column) for column in part]
-    return [tuple([row[place] for place in places]) for row in table]
-
-
 def _keeps_rule(columns, rule, table):
     """Return whether rows that are equal in the rule's left side are equal in its right side."""
     left, right = rule
     found = {}
-    for group, worth in zip(_projected(columns, left, table), _projected(columns, right, table)):
+    for group, worth in zip(projected(columns, left, table), projected(columns, right, table)):
         if found.setdefault(group, worth) != worth:
             return False
     return True
@@ -132,5 +149,5 @@ def _keeps_rule(columns, rule, table):
 
 def _keeps_key(columns, key, table):
     """Return whether no two rows are equal in the key."""
-    groups = _projected(columns, key, table)
+    groups = projected(columns, key, table)
     return len(set(groups)) == len(groups)

@@ -3,9 +3,20 @@
 import copy
 import unittest
 
+from openties.derivations import find_derivation, is_derivation, is_weaker
+from openties.errors import InvalidScript
+from openties.knowledge import derive, is_knowledge, is_settled, knowledge_after, start_knowledge
 from openties.reports import is_report, kept_columns
+from openties.runs import first_script, run
 from openties.schemas import alike_table, closure, is_schema, is_table
 from samples import FULL, KEYED, NAMES, PLAIN, TOP
+
+THREE = [(1, 5, 0), (2, 4, 0), (3, 5, 0)]
+START = ((), "", "abc", True, None)
+ORDERED = ((), "ba", "abc", True, None)
+BOUNDED = ((), "ba", "abc", True, 2)
+EACH_STEP = (("where", "c", 0), ("sort", "b"), ("stable", "c"), ("sort", "ba"), ("first", 2), ("skip", 1),
+             ("columns", "bc"))
 
 CALLS = [
     (is_schema, (KEYED,), True),
@@ -21,7 +32,36 @@ CALLS = [
     (is_report, (PLAIN, (("sort", "b"), ["first", [2]])), False),
     (kept_columns, (KEYED, NAMES), "bc"),
     (kept_columns, (KEYED, FULL), "abc"),
+    (run, (PLAIN, TOP, THREE, [[0, 1, 2], [1, 2, 0]]), [(2, 4, 0), (3, 5, 0)]),
+    (run, (PLAIN, (), THREE, [[2, 0, 1]]), [(3, 5, 0), (1, 5, 0), (2, 4, 0)]),
+    (run, (PLAIN, EACH_STEP, THREE, [[0, 1, 2], [1, 2, 0], [0, 2, 1]]), [(5, 0)]),
+    (run, (PLAIN, (("sort", "b"), ("count", "b")), THREE, [[2, 1, 0], [1, 0, 2]]), [(4, 1), (5, 2)]),
+    (run, (PLAIN, (("sort", "b"), ("sum", "b", "a")), THREE, [[2, 1, 0], [1, 0, 2]]), [(4, 2), (5, 4)]),
+    (run, (PLAIN, (("sort", "b"), ("heads", "b")), THREE, [[2, 1, 0], [1, 0, 2]]), [(2, 4, 0), (3, 5, 0)]),
+    (first_script, (PLAIN, (), THREE), [[0, 1, 2]]),
+    (first_script, (PLAIN, EACH_STEP, THREE), [[0, 1, 2], [1, 0, 2], [0, 1, 2]]),
+    (first_script, (PLAIN, (("sort", "b"), ("heads", "b")), THREE), [[0, 1, 2], [1, 0, 2]]),
+    (is_knowledge, (KEYED, BOUNDED), True),
+    (is_knowledge, (KEYED, [[], "ba", ["abc"], True, {"a": [2]}]), False),
+    (is_knowledge, (KEYED, ([("a", 1)], "ba", "abc", True, 2)), False),
+    (start_knowledge, (KEYED,), START),
+    (knowledge_after, (KEYED, START, ("sort", "ba")), ORDERED),
+    (knowledge_after, (KEYED, ORDERED, ("first", 2)), BOUNDED),
+    (knowledge_after, (KEYED, START, ("where", "a", 1)), ((("a", 1),), "", "abc", True, 1)),
+    (derive, (KEYED, FULL), [START, ORDERED, BOUNDED]),
+    (is_settled, (KEYED, FULL), True),
+    (is_settled, (PLAIN, FULL), False),
+    (is_weaker, (START, ORDERED), True),
+    (is_weaker, (BOUNDED, START), False),
+    (is_derivation, (KEYED, FULL, [START, ORDERED, BOUNDED]), True),
+    (is_derivation, (KEYED, FULL, [START, list(ORDERED), [BOUNDED]]), False),
+    (is_derivation, (KEYED, FULL, (START, [ORDERED], {"a": [BOUNDED]})), False),
+    (find_derivation, (KEYED, FULL), [START, ORDERED, BOUNDED]),
+    (find_derivation, (PLAIN, FULL), None),
 ]
+
+# Calls that return lists.
+LISTS = [call for call in CALLS if isinstance(call[2], list)]
 
 
 class TestConventions(unittest.TestCase):
@@ -47,6 +87,39 @@ class TestConventions(unittest.TestCase):
         table.pop()
         self.assertIs(is_table(KEYED, table), True)
 
+    def test_arguments_are_unchanged_by_a_call_that_raises_an_error(self):
+        for script in ([[0, 1, 2], [0, 1, 2]], [[2, 1, 0], [1, 0, True]], [[0, [1], 2], (1, 0, 2)], {"a": [[0]]}):
+            arguments = (PLAIN, TOP, list(THREE), script)
+            before = copy.deepcopy(arguments)
+            self.assertRaises(InvalidScript, run, *arguments)
+            self.assertEqual(arguments, before)
+
+    def test_a_changed_script_or_table_has_a_result_of_its_own(self):
+        table, script = list(THREE), [[0, 1, 2], [1, 0, 2]]
+        outcome = run(PLAIN, TOP, table, script)
+        script[1][1:] = [2, 0]
+        self.assertEqual(run(PLAIN, TOP, table, script), [(2, 4, 0), (3, 5, 0)])
+        table[1] = (7, 3, 0)
+        self.assertEqual(run(PLAIN, TOP, table, script), [(7, 3, 0), (3, 5, 0)])
+        self.assertEqual(first_script(PLAIN, (("sort", "ab"),), table), [[0, 1, 2], [0, 2, 1]])
+        self.assertEqual(outcome, [(2, 4, 0), (1, 5, 0)])
+
+    def test_each_returned_list_is_new(self):
+        for function, arguments, expected in LISTS:
+            with self.subTest(function=function.__name__, arguments=arguments):
+                first = function(*arguments)
+                for argument in arguments:
+                    self.assertIsNot(first, argument)
+                for part in first:
+                    if isinstance(part, list):
+                        part.append("changed")
+                first.append("changed")
+                first[0] = None
+                self.assertEqual(function(*arguments), expected)
+        script = first_script(PLAIN, (("sort", "b"), ("sort", "c")), [(1, 1, 1)] * 2)
+        script[1].reverse()
+        self.assertEqual(script, [[0, 1], [1, 0], [0, 1]])
+
     def test_a_returned_list_may_be_changed(self):
         for count in (0, 1, 2, 30):
             table = alike_table(PLAIN, "a", count)
@@ -66,3 +139,6 @@ class TestConventions(unittest.TestCase):
         self.assertIs(is_schema((closure(KEYED, "b"), (), ())), True)
         self.assertIs(is_schema(tuple(table[:3])), False)
         self.assertIs(is_report(PLAIN, tuple(table[:3])), False)
+        self.assertIs(is_knowledge(PLAIN, tuple(table[:5])), False)
+        self.assertIs(is_derivation(PLAIN, (), [tuple(table[:5])]), False)
+        self.assertRaises(InvalidScript, run, PLAIN, (), table, table)

@@ -14,6 +14,22 @@ FUNCTIONS = {
         "alike_table": ["schema", "columns", "count"],
     },
     "reports.py": {"is_report": ["schema", "value"], "kept_columns": ["schema", "report"]},
+    "runs.py": {
+        "run": ["schema", "report", "table", "script"],
+        "first_script": ["schema", "report", "table"],
+    },
+    "knowledge.py": {
+        "is_knowledge": ["schema", "value"],
+        "start_knowledge": ["schema"],
+        "knowledge_after": ["schema", "knowledge", "step"],
+        "derive": ["schema", "report"],
+        "is_settled": ["schema", "report"],
+    },
+    "derivations.py": {
+        "is_weaker": ["knowledge", "other"],
+        "is_derivation": ["schema", "report", "value"],
+        "find_derivation": ["schema", "report"],
+    },
 }
 
 ERRORS = ["OpentiesError", "InvalidIndex", "InvalidName", "NameInUse", "OfficeFull", "NoTable", "InvalidScript",

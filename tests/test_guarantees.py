@@ -1,0 +1,95 @@
+"""Point [3], as far as derivations go: a report has one exactly if no table has two runs with different outcomes."""
+
+import unittest
+from itertools import combinations_with_replacement, product
+
+from openties.derivations import find_derivation, is_derivation
+from openties.knowledge import is_settled
+from openties.reports import is_report
+from openties.runs import first_script, run
+from openties.schemas import is_table
+from plain import all_outcomes, all_runs
+from samples import FULL, KEYED, NAMES, PLAIN, TOP
+
+STEPS = [
+    ("where", "a", 0), ("where", "a", 1), ("where", "b", 0),
+    ("sort", "a"), ("sort", "b"), ("sort", "ba"), ("stable", "a"), ("stable", "b"), ("stable", "ab"),
+    ("first", 0), ("first", 1), ("first", 2), ("skip", 0), ("skip", 1),
+    ("columns", "a"), ("columns", "b"), ("count", "a"), ("count", "ab"), ("sum", "a", "b"), ("sum", "b", "a"),
+    ("heads", "a"), ("heads", "ab"),
+]
+
+SCHEMAS = [
+    ("ab", (), ()),
+    ("ab", (("a", "b"),), ()),
+    ("ab", (), ("b",)),
+    ("ab", (("", "b"),), ("a",)),
+    ("ab", (), ("ab",)),
+    ("ab", (("", "a"),), ("a",)),
+]
+
+LONG_REPORTS = [
+    TOP,
+    FULL,
+    NAMES,
+    (("where", "b", 1), ("sort", "c"), ("stable", "b"), ("first", 2), ("columns", "ac")),
+    (("where", "b", 1), ("sort", "c"), ("stable", "b"), ("first", 2), ("columns", "bc")),
+    (("where", "b", 1), ("sort", "c"), ("stable", "a"), ("skip", 1), ("sum", "c", "a")),
+    (("stable", "b"), ("stable", "c"), ("stable", "a"), ("first", 2), ("skip", 1)),
+    (("stable", "b"), ("sort", "a"), ("first", 2), ("count", "ab")),
+    (("sort", "b"), ("first", 2), ("where", "b", 1), ("columns", "b"), ("count", "b")),
+    (("sort", "b"), ("first", 2), ("where", "c", 1), ("columns", "c")),
+    (("sort", "b"), ("first", 2), ("columns", "bc"), ("heads", "b")),
+    (("sort", "b"), ("first", 2), ("sum", "b", "c")),
+    (("columns", "bc"), ("sort", "b"), ("skip", 1), ("heads", "c")),
+    (("sort", "ca"), ("heads", "b")),
+    (("sort", "c"), ("heads", "ab")),
+    (("columns", "ac"), ("sort", "c"), ("heads", "a")),
+    (("where", "a", 1), ("first", 1), ("columns", "c")),
+    (("where", "a", 1), ("skip", 1), ("columns", "c")),
+]
+
+
+def tables_of(schema, values, most):
+    rows = list(product(values, repeat=len(schema[0])))
+    tables = [list(table) for many in range(most + 1) for table in combinations_with_replacement(rows, many)]
+    return [table for table in tables if is_table(schema, table)]
+
+
+class TestGuarantees(unittest.TestCase):
+    def check(self, schema, report, tables, more):
+        """A derivation and a table with two outcomes: just one of them exists."""
+        found = find_derivation(schema, report)
+        self.assertIs(is_settled(schema, report), found is not None)
+        if found is None:
+            several = any(len(all_outcomes(schema, report, table)) > 1 for table in reversed(more))
+            self.assertTrue(several, (schema, report))
+            return
+        self.assertIs(is_derivation(schema, report, found), True)
+        for table in tables:
+            self.assertEqual(len(all_outcomes(schema, report, table)), 1, (schema, report, table))
+
+    def test_short_reports(self):
+        for schema in SCHEMAS:
+            tables, more = tables_of(schema, (0, 1), 3), tables_of(schema, (0, 1, 2), 3)
+            for many in range(3):
+                for report in product(STEPS, repeat=many):
+                    if is_report(schema, report):
+                        self.check(schema, report, tables, more)
+
+    def test_longer_reports(self):
+        for schema in (PLAIN, KEYED, ("abc", (("c", "a"),), ()), ("abc", (), ("bc",))):
+            tables, more = tables_of(schema, (0, 1), 3), tables_of(schema, (0, 1, 2), 3)
+            for report in LONG_REPORTS:
+                self.check(schema, report, tables, more)
+
+    def test_run_has_just_these_outcomes(self):
+        for schema in (PLAIN, KEYED):
+            for report in LONG_REPORTS:
+                for table in ([(0, 1, 1), (1, 0, 1), (2, 1, 1)], [(2, 1, 0), (1, 1, 0)], []):
+                    outcomes = {tuple(run(schema, report, table, script))
+                                for script, _ in all_runs(schema, report, table)}
+                    self.assertEqual(outcomes, all_outcomes(schema, report, table))
+                    if find_derivation(schema, report) is not None:
+                        only = run(schema, report, table, first_script(schema, report, table))
+                        self.assertEqual(outcomes, {tuple(only)})
