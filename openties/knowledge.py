@@ -72,7 +72,14 @@ def settles(schema, report, knowledge):
     if not contains(known, kept):
         return False
     group = report[-1][1] if kind == "heads" else ""
-    return most == 1 or contains(_determined(schema, knowledge, group), kept)
+    return most == 1 or contains(determined(schema, knowledge, group), kept)
+
+
+def determined(schema, knowledge, columns):
+    """Return the closure of the columns of the order, the constants and the given column set."""
+    constants, order = knowledge[:2]
+    names = "".join([column for column, _ in constants]) + order + columns
+    return closure(schema, common(schema[0], names))
 
 
 def _are_constants(columns, value):
@@ -94,16 +101,9 @@ def _is_bound(value):
     return value is None or is_plain_integer(value) and value >= 1
 
 
-def _determined(schema, knowledge, columns):
-    """Return the closure of the columns of the order, the constants and the given column set."""
-    constants, order = knowledge[:2]
-    names = "".join([column for column, _ in constants]) + order + columns
-    return closure(schema, common(schema[0], names))
-
-
 def _placed(schema, knowledge):
     """Return the placed columns of a knowledge."""
-    return common(knowledge[2], _determined(schema, knowledge, ""))
+    return common(knowledge[2], determined(schema, knowledge, ""))
 
 
 def _after_where(schema, knowledge, column, worth):

@@ -4,6 +4,9 @@ from openties.errors import InvalidScript
 from openties.reports import SORTING, kept_after
 from openties.schemas import is_plain_integer, projected
 
+# No column has this name; it stands for the place of a row in an order that a script follows.
+PLACE = "#"
+
 
 def run(schema, report, table, script):
     """Return the outcome of the run that the script describes."""
@@ -31,6 +34,22 @@ def first_script(schema, report, table):
     for step in report:
         if step[0] == "sort":
             script.append(stable_permutation(kept, rows, step[1]))
+        rows = rows_after(kept, rows, step)
+        kept = kept_after(kept, step)
+    return script
+
+
+def script_in_order(schema, report, table, order):
+    """Return the script that follows a permutation: at the start, and at each sort for the rows that are equal."""
+    script = [list(order)]
+    # Each row carries its place in the order as a further column, and each sort is by this column at last.
+    rows = [(*table[index], place) for place, index in enumerate(order)]
+    kept = schema[0] + PLACE
+    for step in report:
+        if step[0] == "sort":
+            script.append(stable_permutation(kept, rows, step[1] + PLACE))
+        if step[0] in ("sort", "columns"):
+            step = (step[0], step[1] + PLACE)
         rows = rows_after(kept, rows, step)
         kept = kept_after(kept, step)
     return script

@@ -1,6 +1,6 @@
 """What the document says of runs, in slow and plain words, to compare the program with."""
 
-from itertools import groupby, permutations
+from itertools import groupby, permutations, product
 
 
 def picked(kept, columns, row):
@@ -84,3 +84,10 @@ def all_outcomes(schema, report, table):
         if step[0] == "columns":
             kept = step[1]
     return states
+
+
+def all_joined(outcomes, n):
+    """All joined pages of size n, where each page may be one of any of the outcomes, as tuples of rows."""
+    many = len(min(outcomes))
+    pages = [{rows[k * n:k * n + n] for rows in outcomes} for k in range(many // n + 1)]
+    return {sum(choice, ()) for choice in product(*pages)}

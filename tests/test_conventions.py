@@ -6,9 +6,12 @@ import unittest
 from openties.derivations import find_derivation, is_derivation, is_weaker
 from openties.errors import InvalidScript
 from openties.knowledge import derive, is_knowledge, is_settled, knowledge_after, start_knowledge
+from openties.mends import find_mend, is_mend, mended
+from openties.pages import find_loss, is_lossless, joined, page
 from openties.reports import is_report, kept_columns
 from openties.runs import first_script, run
 from openties.schemas import alike_table, closure, is_schema, is_table
+from openties.witnesses import find_witness, is_witness
 from samples import FULL, KEYED, NAMES, PLAIN, TOP
 
 THREE = [(1, 5, 0), (2, 4, 0), (3, 5, 0)]
@@ -58,10 +61,41 @@ CALLS = [
     (is_derivation, (KEYED, FULL, (START, [ORDERED], {"a": [BOUNDED]})), False),
     (find_derivation, (KEYED, FULL), [START, ORDERED, BOUNDED]),
     (find_derivation, (PLAIN, FULL), None),
+    (is_witness, (PLAIN, TOP, (THREE, [[0, 1, 2], [1, 0, 2]], [[0, 1, 2], [1, 2, 0]])), True),
+    (is_witness, (PLAIN, TOP, ([[1, 5, 0]], [[0]], {"a": [[0]]})), False),
+    (is_witness, (PLAIN, TOP, [THREE, [[0, 1, 2], [1, 0, 2]], [[0, 1, 2], [1, 2, 0]]]), False),
+    (find_witness, (KEYED, FULL), None),
+    (is_mend, (PLAIN, TOP, ("ac",)), True),
+    (is_mend, (PLAIN, TOP, (["a"], {"a": ["c"]})), False),
+    (mended, (TOP, ("a",)), FULL),
+    (find_mend, (PLAIN, TOP), ("ac",)),
+    (page, (THREE, 2, 0), THREE[:2]),
+    (page, (THREE, 3, 0), THREE),
+    (page, (THREE, 3, 1), []),
+    (joined, (PLAIN, (), 2, THREE, [[[0, 1, 2]], [[2, 1, 0]]]), [(1, 5, 0), (2, 4, 0), (1, 5, 0)]),
+    (joined, (PLAIN, (), 20, THREE, [[[0, 1, 2]]]), THREE),
+    (is_lossless, (PLAIN, TOP, 1), False),
+    (find_loss, (PLAIN, TOP, 2), None),
+]
+
+# Calls that return any valid value, which holds lists.
+CHOOSING = [
+    (find_witness, (PLAIN, ())),
+    (find_witness, (PLAIN, TOP)),
+    (find_witness, (KEYED, (("stable", "b"), ("first", 3), ("where", "c", 2), ("skip", 2)))),
+    (find_loss, (PLAIN, (), 1)),
+    (find_loss, (PLAIN, TOP, 1)),
+    (find_loss, (KEYED, (("sort", "b"), ("sort", "c"), ("skip", 2)), 5)),
 ]
 
 # Calls that return lists.
 LISTS = [call for call in CALLS if isinstance(call[2], list)]
+
+
+def lists_within(value):
+    """All lists within a value of lists and tuples, each as often as it stands there."""
+    found = [value] if isinstance(value, list) else []
+    return found + [part for item in value if isinstance(item, (list, tuple)) for part in lists_within(item)]
 
 
 class TestConventions(unittest.TestCase):
@@ -78,6 +112,21 @@ class TestConventions(unittest.TestCase):
                 self.assertEqual(function(*copy.deepcopy(arguments)), expected)
                 self.assertEqual(function(*arguments), function(*arguments))
         self.assertEqual(alike_table(KEYED, "b", 30), alike_table(KEYED, "b", 30))
+
+    def test_chosen_values_are_equal_and_new(self):
+        for function, arguments in CHOOSING:
+            with self.subTest(function=function.__name__, arguments=arguments):
+                first = function(*copy.deepcopy(arguments))
+                kept = copy.deepcopy(first)
+                second = function(*arguments)
+                self.assertEqual(second, kept)
+                found = lists_within(first) + lists_within(second)
+                # No list stands in two places, so a change of one changes no other.
+                self.assertEqual(len({id(part) for part in found}), len(found))
+                for part in found:
+                    part.append("changed")
+                    part[0] = None
+                self.assertEqual(function(*arguments), kept)
 
     def test_a_changed_argument_has_a_result_of_its_own(self):
         table = [(1, 5, 7), (2, 5, 7)]

@@ -30,6 +30,18 @@ FUNCTIONS = {
         "is_derivation": ["schema", "report", "value"],
         "find_derivation": ["schema", "report"],
     },
+    "witnesses.py": {"is_witness": ["schema", "report", "value"], "find_witness": ["schema", "report"]},
+    "mends.py": {
+        "is_mend": ["schema", "report", "value"],
+        "mended": ["report", "mend"],
+        "find_mend": ["schema", "report"],
+    },
+    "pages.py": {
+        "page": ["outcome", "n", "k"],
+        "joined": ["schema", "report", "n", "table", "scripts"],
+        "is_lossless": ["schema", "report", "n"],
+        "find_loss": ["schema", "report", "n"],
+    },
 }
 
 ERRORS = ["OpentiesError", "InvalidIndex", "InvalidName", "NameInUse", "OfficeFull", "NoTable", "InvalidScript",

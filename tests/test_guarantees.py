@@ -1,15 +1,20 @@
-"""Point [3], as far as derivations go: a report has one exactly if no table has two runs with different outcomes."""
+"""Point [3]: derivations and witnesses, mends and pages, over all small reports."""
 
 import unittest
 from itertools import combinations_with_replacement, product
 
 from openties.derivations import find_derivation, is_derivation
 from openties.knowledge import is_settled
+from openties.mends import find_mend, mended
+from openties.pages import find_loss, is_lossless
 from openties.reports import is_report
 from openties.runs import first_script, run
 from openties.schemas import is_table
-from plain import all_outcomes, all_runs
+from openties.witnesses import find_witness, is_witness
+from plain import all_joined, all_outcomes, all_runs
 from samples import FULL, KEYED, NAMES, PLAIN, TOP
+from test_mends import all_mends
+from test_pages import has_pages
 
 STEPS = [
     ("where", "a", 0), ("where", "a", 1), ("where", "b", 0),
@@ -60,8 +65,11 @@ class TestGuarantees(unittest.TestCase):
     def check(self, schema, report, tables, more):
         """A derivation and a table with two outcomes: just one of them exists."""
         found = find_derivation(schema, report)
+        witness = find_witness(schema, report)
         self.assertIs(is_settled(schema, report), found is not None)
+        self.assertIs(witness is None, found is not None, (schema, report))
         if found is None:
+            self.assertIs(is_witness(schema, report, witness), True, (schema, report, witness))
             several = any(len(all_outcomes(schema, report, table)) > 1 for table in reversed(more))
             self.assertTrue(several, (schema, report))
             return
@@ -82,6 +90,40 @@ class TestGuarantees(unittest.TestCase):
             tables, more = tables_of(schema, (0, 1), 3), tables_of(schema, (0, 1, 2), 3)
             for report in LONG_REPORTS:
                 self.check(schema, report, tables, more)
+
+    def test_mended_reports(self):
+        for schema in SCHEMAS:
+            for report in product(STEPS, repeat=2):
+                if is_report(schema, report):
+                    self.check_mend(schema, report)
+        for schema in (PLAIN, KEYED, ("abc", (("c", "a"),), ()), ("abc", (), ("bc",))):
+            for report in LONG_REPORTS:
+                self.check_mend(schema, report)
+
+    def check_mend(self, schema, report):
+        """A mended report is settled, and no mend with fewer columns settles it."""
+        mends = all_mends(schema, report)
+        right = [mend for mend in mends if find_witness(schema, mended(report, mend)) is None]
+        found = find_mend(schema, report)
+        self.assertIs(found is None, right == [], (schema, report))
+        if found is not None:
+            self.assertIn(found, right)
+            self.assertEqual(len("".join(found)), min(len("".join(mend)) for mend in right), (schema, report))
+            self.assertIs(is_settled(schema, mended(report, found)), True, (schema, report))
+
+    def test_pages(self):
+        """All joined pages are outcomes of each table if and only if the library says so."""
+        for schema in SCHEMAS:
+            tables = tables_of(schema, (0, 1), 3)
+            for report in [*product(STEPS, repeat=1), *product(STEPS, repeat=2)]:
+                if not is_report(schema, report) or not has_pages(schema, report):
+                    continue
+                for n in (1, 2):
+                    lossless = is_lossless(schema, report, n)
+                    self.assertIs(find_loss(schema, report, n) is None, lossless, (schema, report, n))
+                    for table in tables if lossless else []:
+                        outcomes = all_outcomes(schema, report, table)
+                        self.assertLessEqual(all_joined(outcomes, n), outcomes, (schema, report, n, table))
 
     def test_run_has_just_these_outcomes(self):
         for schema in (PLAIN, KEYED):
