@@ -15,9 +15,11 @@ def is_witness(schema, report, value):
     if not is_table(schema, table):
         return False
     try:
-        return run(schema, report, table, script) != run(schema, report, table, other)
+        outcome = run(schema, report, table, script)
+        other_outcome = run(schema, report, table, other)
     except InvalidScript:
         return False
+    return outcome != other_outcome
 
 
 def find_witness(schema, report):
@@ -40,7 +42,7 @@ def _alike_exchange(schema, report, knowledge):
         return alike_rows(schema, knowledge, "", end + 1), start, end
     if start > 0:
         return alike_rows(schema, knowledge, "", start + 1), 0, start
-    # Without a cut the same rows are left: the last step tells two of them apart by being first in their group.
+    # Without a cut all rows are left. 'heads' keeps the first row of each group, so the two have to be in one.
     group = report[-1][1] if report and report[-1][0] == "heads" else ""
     return alike_rows(schema, knowledge, group, 2), 0, 1
 

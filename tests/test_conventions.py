@@ -3,10 +3,13 @@
 import copy
 import unittest
 
+from openties.choosers import play
 from openties.derivations import find_derivation, is_derivation, is_weaker
-from openties.errors import InvalidScript
+from openties.errors import InvalidScript, NoRun
+from openties.keys import are_equivalent, find_table, minimal_keys
 from openties.knowledge import derive, is_knowledge, is_settled, knowledge_after, start_knowledge
 from openties.mends import find_mend, is_mend, mended
+from openties.outcomes import find_difference, outcomes, script_for
 from openties.pages import find_loss, is_lossless, joined, page
 from openties.reports import is_report, kept_columns
 from openties.runs import first_script, run
@@ -76,6 +79,15 @@ CALLS = [
     (joined, (PLAIN, (), 20, THREE, [[[0, 1, 2]]]), THREE),
     (is_lossless, (PLAIN, TOP, 1), False),
     (find_loss, (PLAIN, TOP, 2), None),
+    (outcomes, (PLAIN, TOP, THREE), [[(2, 4, 0), (1, 5, 0)], [(2, 4, 0), (3, 5, 0)]]),
+    (outcomes, (PLAIN, (), THREE[:1]), [THREE[:1]]),
+    (find_difference, (PLAIN, NAMES, THREE), None),
+    (script_for, (PLAIN, (), THREE, [THREE[1], THREE[2], THREE[0]]), [[1, 2, 0]]),
+    (play, (PLAIN, TOP, THREE, len), ([(2, 4, 0), (1, 5, 0)], [[0, 1, 2], [1, 0, 2]])),
+    (minimal_keys, (KEYED,), ["a"]),
+    (minimal_keys, (("abc", (("a", "b"),), ("bc", "c")),), ["c"]),
+    (are_equivalent, (KEYED, PLAIN), False),
+    (find_table, (KEYED, PLAIN), None),
 ]
 
 # Calls that return any valid value, which holds lists.
@@ -86,6 +98,12 @@ CHOOSING = [
     (find_loss, (PLAIN, (), 1)),
     (find_loss, (PLAIN, TOP, 1)),
     (find_loss, (KEYED, (("sort", "b"), ("sort", "c"), ("skip", 2)), 5)),
+    (outcomes, (PLAIN, (("sort", "b"),), THREE)),
+    (find_difference, (PLAIN, (), THREE)),
+    (find_difference, (PLAIN, TOP, THREE)),
+    (script_for, (PLAIN, TOP, THREE, [(2, 4, 0), (3, 5, 0)])),
+    (play, (PLAIN, (("sort", "b"), ("sort", "b")), THREE, len)),
+    (find_table, (PLAIN, KEYED)),
 ]
 
 # Calls that return lists.
@@ -141,6 +159,13 @@ class TestConventions(unittest.TestCase):
             arguments = (PLAIN, TOP, list(THREE), script)
             before = copy.deepcopy(arguments)
             self.assertRaises(InvalidScript, run, *arguments)
+            self.assertEqual(arguments, before)
+
+    def test_an_outcome_of_any_value_is_unchanged(self):
+        for outcome in ([[2, 4, 0], [1, 5, 0]], [(2, 4, False), (1, 5, 0)], {"a": [[2]]}, ([(2, 4, 0)], [1]), []):
+            arguments = (PLAIN, TOP, list(THREE), outcome)
+            before = copy.deepcopy(arguments)
+            self.assertRaises(NoRun, script_for, *arguments)
             self.assertEqual(arguments, before)
 
     def test_a_changed_script_or_table_has_a_result_of_its_own(self):

@@ -42,6 +42,31 @@ FUNCTIONS = {
         "is_lossless": ["schema", "report", "n"],
         "find_loss": ["schema", "report", "n"],
     },
+    "outcomes.py": {
+        "outcomes": ["schema", "report", "table"],
+        "find_difference": ["schema", "report", "table"],
+        "script_for": ["schema", "report", "table", "outcome"],
+    },
+    "choosers.py": {"play": ["schema", "report", "table", "choose"]},
+    "keys.py": {
+        "minimal_keys": ["schema"],
+        "are_equivalent": ["schema", "other"],
+        "find_table": ["schema", "other"],
+    },
+}
+
+METHODS = {
+    "insert": ["row"],
+    "delete": ["index"],
+    "add": ["name", "report"],
+    "drop": ["name"],
+    "undo": [],
+    "table": [],
+    "names": [],
+    "report": ["name"],
+    "outcome": ["name"],
+    "is_settled": ["name"],
+    "open_reports": [],
 }
 
 ERRORS = ["OpentiesError", "InvalidIndex", "InvalidName", "NameInUse", "OfficeFull", "NoTable", "InvalidScript",
@@ -61,6 +86,18 @@ class TestForm(unittest.TestCase):
                 if isinstance(part, ast.FunctionDef) and part.name in functions
             }
             self.assertEqual(found, functions, name)
+
+    def test_methods_are_defined_in_their_class(self):
+        office, = [part for part in parsed("office.py").body
+                   if isinstance(part, ast.ClassDef) and part.name == "Office"]
+        found = {
+            part.name: [argument.arg for argument in part.args.args]
+            for part in office.body
+            if isinstance(part, ast.FunctionDef) and not part.name.startswith("_")
+        }
+        self.assertEqual(found, {name: ["self", *arguments] for name, arguments in METHODS.items()})
+        special = [part.name for part in office.body if isinstance(part, ast.FunctionDef)]
+        self.assertTrue({"__init__", "__eq__"} <= set(special))
 
     def test_errors_are_defined_in_their_file(self):
         found = [part.name for part in parsed("errors.py").body if isinstance(part, ast.ClassDef)]

@@ -6,6 +6,7 @@ from itertools import combinations_with_replacement, product
 from openties.derivations import find_derivation, is_derivation
 from openties.knowledge import is_settled
 from openties.mends import find_mend, mended
+from openties.outcomes import find_difference, outcomes
 from openties.pages import find_loss, is_lossless
 from openties.reports import is_report
 from openties.runs import first_script, run
@@ -124,6 +125,26 @@ class TestGuarantees(unittest.TestCase):
                     for table in tables if lossless else []:
                         outcomes = all_outcomes(schema, report, table)
                         self.assertLessEqual(all_joined(outcomes, n), outcomes, (schema, report, n, table))
+
+    def test_outcomes(self):
+        """The outcomes for a table are all that any runs have; a settled report has one for each table."""
+        for schema in SCHEMAS:
+            tables = tables_of(schema, (0, 1), 3)
+            for report in [*product(STEPS, repeat=1), *product(STEPS, repeat=2)]:
+                if is_report(schema, report):
+                    for table in tables[::3]:
+                        found = outcomes(schema, report, table)
+                        right = sorted(list(rows) for rows in all_outcomes(schema, report, table))
+                        self.assertEqual(found, right, (schema, report, table))
+                        self.assertIs(find_difference(schema, report, table) is None, len(right) == 1)
+                        self.assertTrue(len(found) == 1 or not is_settled(schema, report), (schema, report, table))
+
+    def test_a_witness_has_several_outcomes(self):
+        for schema in SCHEMAS:
+            for report in product(STEPS, repeat=2):
+                witness = find_witness(schema, report) if is_report(schema, report) else None
+                if witness is not None and len(witness[0]) <= 5:
+                    self.assertGreater(len(outcomes(schema, report, witness[0])), 1, (schema, report))
 
     def test_run_has_just_these_outcomes(self):
         for schema in (PLAIN, KEYED):

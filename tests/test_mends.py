@@ -243,7 +243,7 @@ class TestFindMend(unittest.TestCase):
 
     def test_against_a_search_through_all_mends(self):
         sizes = {}
-        for schema, report in pairs(22, 900) + NOT_SETTLED:
+        for schema, report in pairs(22, 600) + NOT_SETTLED:
             if number_of_sorts(report) > 3 or len(schema[0]) ** number_of_sorts(report) > 64:
                 continue
             right = [mend for mend in all_mends(schema, report) if is_settled(schema, plain_mended(report, mend))]

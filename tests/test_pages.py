@@ -227,12 +227,12 @@ class TestFindLoss(unittest.TestCase):
 
     def test_many_reports(self):
         many = 0
-        for schema, report in pairs(32, 1500, last=False):
+        for schema, report in pairs(32, 800, last=False):
             if has_pages(schema, report):
                 for n in (1, 2, 3, 5, 13, 20):
                     self.check(schema, report, n)
                     many += not is_lossless(schema, report, n)
-        self.assertGreater(many, 1000)
+        self.assertGreater(many, 500)
 
     def test_small_tables_without_a_row_too_many(self):
         # Two rows show that pages of size 1 lose one, and three that pages of size 2 do.
