@@ -6,7 +6,7 @@ from openties.schemas import alike_table
 
 
 def span(steps):
-    """Return the index of the first row that cuts leave of many rows, and the one behind the last, None if unbound."""
+    """Return where the rows that cuts leave of many rows begin, and where they end: None if they are all the others."""
     start, end = 0, None
     for step in steps:
         if step[0] == "skip":
